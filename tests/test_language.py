@@ -51,6 +51,51 @@ def imported(tree):
     return [(node.module, alias.name) for node in tree.body if isinstance(node, ast.ImportFrom) for alias in node.names]
 
 
+def is_plain(value, functions):
+    """Plain values, and lists, tuples and dicts of these and of the functions that stand above."""
+    if isinstance(value, ast.Name):
+        return value.id in functions
+    if isinstance(value, (ast.List, ast.Tuple)):
+        return all(is_plain(part, functions) for part in value.elts)
+    if isinstance(value, ast.Dict):
+        return all(is_plain(part, functions) for part in value.keys + value.values)
+    ast.literal_eval(value)
+    return True
+
+
+def holds_lists(value):
+    return any(isinstance(node, (ast.List, ast.Dict)) for node in ast.walk(value) if node is not value)
+
+
+def parents_of(tree):
+    return {kid: node for node in ast.walk(tree) for kid in ast.iter_child_nodes(node)}
+
+
+def called(node):
+    """The name that a call calls, or its method's name."""
+    if isinstance(node, ast.Call):
+        return node.func.id if isinstance(node.func, ast.Name) else getattr(node.func, "attr", None)
+    return None
+
+
+def is_walked(node, parent):
+    if isinstance(parent, (ast.For, ast.comprehension)):
+        return parent.iter is node
+    walkers = ("list", "tuple", "dict", "sorted", "sum", "any", "all", "enumerate", "zip", "min", "max", "join")
+    return called(parent) in walkers
+
+
+def is_read(node, parent):
+    """Whether a list or dict of a file's top is only read where it stands."""
+    if isinstance(parent, (ast.Subscript, ast.For, ast.comprehension)):
+        return isinstance(getattr(parent, "ctx", ast.Load()), ast.Load)
+    if isinstance(parent, ast.Compare):
+        return True
+    if isinstance(parent, ast.Attribute):
+        return parent.attr in ("get", "items", "keys", "values", "index", "count")
+    return called(parent) in ("len", "list", "dict", "tuple", "sorted", "enumerate", "zip", "sum", "min", "max")
+
+
 def is_text(node):
     return isinstance(node, ast.Expr) and isinstance(node.value, ast.Constant) and isinstance(node.value.value, str)
 
@@ -83,9 +128,11 @@ class LanguageTest(unittest.TestCase):
             for node in tree.body[1:]:
                 self.assertIsInstance(node, (ast.ImportFrom, ast.Assign, ast.FunctionDef, ast.ClassDef), name)
                 if isinstance(node, ast.Assign):
-                    ast.literal_eval(node.value)
-            tops = [node.id for top in tree.body for node in ast.walk(top)
-                    if isinstance(top, ast.Assign) and isinstance(node, ast.Name)]
+                    above = [found.name for found in tree.body if isinstance(found, ast.FunctionDef)
+                             and found.lineno < node.lineno]
+                    self.assertTrue(is_plain(node.value, above), (name, node.lineno))
+                    self.assertFalse(holds_lists(node.value), (name, node.lineno))
+            tops = [target.id for top in tree.body if isinstance(top, ast.Assign) for target in top.targets]
             tops += [node.name for node in tree.body if isinstance(node, (ast.FunctionDef, ast.ClassDef))]
             tops += [found for module, found in imported(tree)]
             self.assertEqual(len(tops), len(set(tops)), name)
@@ -152,6 +199,55 @@ class LanguageTest(unittest.TestCase):
             for node in ast.walk(tree):
                 if isinstance(node, ast.Name) and isinstance(node.ctx, ast.Load):
                     self.assertIn(node.id, bound + OWN, (name, node.lineno))
+
+    def test_no_local_is_called_like_an_import_or_a_class(self):
+        for name, text, tree in self.each():
+            taken = [found for module, found in imported(tree)]
+            taken += [node.name for node in tree.body if isinstance(node, ast.ClassDef)]
+            for top in tree.body:
+                if isinstance(top, ast.FunctionDef):
+                    for found in bound_names(top):
+                        self.assertNotIn(found, taken, (name, top.name))
+
+    def test_lists_and_dicts_of_the_top_are_only_read(self):
+        for name, text, tree in self.each():
+            kept = [top.targets[0].id for top in tree.body
+                    if isinstance(top, ast.Assign) and isinstance(top.value, (ast.List, ast.Dict))]
+            parents = parents_of(tree)
+            for node in ast.walk(tree):
+                if isinstance(node, ast.Name) and isinstance(node.ctx, ast.Load) and node.id in kept:
+                    self.assertTrue(is_read(node, parents[node]), (name, node.lineno))
+
+    def test_walked_at_once(self):
+        for name, text, tree in self.each():
+            parents = parents_of(tree)
+            for node in ast.walk(tree):
+                if called(node) in ("zip", "enumerate", "reversed", "range", "items", "keys", "values"):
+                    self.assertTrue(is_walked(node, parents[node]), (name, node.lineno))
+                if called(node) in ("set", "frozenset"):
+                    beside = isinstance(parents[node], (ast.Compare, ast.BinOp))
+                    self.assertTrue(beside or called(parents[node]) in ("sorted", "len"), (name, node.lineno))
+
+    def test_pythons_own_are_called_not_kept(self):
+        errors = [found for found in OWN if found[0].isupper()]
+        for name, text, tree in self.each():
+            parents = parents_of(tree)
+            for node in ast.walk(tree):
+                if isinstance(node, ast.Name) and node.id in OWN and node.id not in errors:
+                    parent = parents[node]
+                    beside = called(parents.get(parent)) == "isinstance" or called(parent) == "isinstance"
+                    self.assertTrue(beside or getattr(parent, "func", None) is node, (name, node.lineno))
+
+    def test_errors_are_taken_by_name(self):
+        for name, text, tree in self.each():
+            own = [found for module, found in imported(tree) if module == "keeper.errors"]
+            for node in ast.walk(tree):
+                if isinstance(node, ast.ExceptHandler):
+                    parts = node.type.elts if isinstance(node.type, ast.Tuple) else [node.type]
+                    for part in parts:
+                        self.assertIn(part.id, own + ["KeyError", "ZeroDivisionError", "StopIteration"], name)
+                if isinstance(node, ast.Raise):
+                    self.assertIn(called(node.exc), own, (name, node.lineno))
 
     def test_methods(self):
         methods = list(METHODS)
