@@ -16,6 +16,27 @@ def kind_at(context, number):
     return lifted(context[number], number + 1, 0)
 
 
+def kind_told(name, book):
+    if name not in book:
+        raise NoName("the book has no such name")
+    return book[name][0]
+
+
+def need_all(kind):
+    if kind[0] != "all":
+        raise NotAll("what is taken at something is of no kind all")
+
+
+def need_same(kind):
+    if kind[0] != "same":
+        raise NotSame("what is carried along is of no kind same")
+
+
+def need_some(kind):
+    if kind[0] != "some":
+        raise NotSome("a pair, or what a part is taken of, is of no kind some")
+
+
 def put_ahead(kind, context):
     return [kind] + list(context)
 
@@ -51,9 +72,7 @@ def kind_of_next(context, term, fuel, book):
 
 
 def kind_of_name(context, term, fuel, book):
-    if term[1] not in book:
-        raise NoName("the book has no such name")
-    return book[term[1]][0]
+    return kind_told(term[1], book)
 
 
 def kind_of_fun(context, term, fuel, book):
@@ -64,8 +83,7 @@ def kind_of_fun(context, term, fuel, book):
 
 def kind_of_app(context, term, fuel, book):
     kind = kind_of(context, term[1], fuel, book)
-    if kind[0] != "all":
-        raise NotAll("what is taken at something is of no kind all")
+    need_all(kind)
     hold_to(context, term[2], kind[1], fuel, book)
     return put_in(kind[2], term[2], 0)
 
@@ -96,8 +114,7 @@ def kind_of_like(context, term, fuel, book):
 
 def kind_of_carry(context, term, fuel, book):
     kind = kind_of(context, term[3], fuel, book)
-    if kind[0] != "same":
-        raise NotSame("what is carried along is of no kind same")
+    need_same(kind)
     let_by(put_ahead(kind[1], context), term[1], fuel, book)
     hold_to(context, term[2], put_in(term[1], kind[2], 0), fuel, book)
     return put_in(term[1], kind[3], 0)
@@ -112,8 +129,7 @@ def kind_of_never(context, term, fuel, book):
 def kind_of_pair(context, term, fuel, book):
     kind = term[1]
     let_by(context, kind, fuel, book)
-    if kind[0] != "some":
-        raise NotSome("the kind of a pair is no kind some")
+    need_some(kind)
     hold_to(context, term[2], kind[1], fuel, book)
     hold_to(context, term[3], put_in(kind[2], term[2], 0), fuel, book)
     return kind
@@ -121,8 +137,7 @@ def kind_of_pair(context, term, fuel, book):
 
 def kind_of_whole(context, term, fuel, book):
     kind = kind_of(context, term[1], fuel, book)
-    if kind[0] != "some":
-        raise NotSome("what a part is taken of is of no kind some")
+    need_some(kind)
     return kind
 
 

@@ -195,7 +195,7 @@ class LanguageTest(unittest.TestCase):
             bound = bound_names(tree) + [found for module, found in imported(tree)]
             for found in bound:
                 self.assertRegex(found, r"^([A-Za-z][A-Za-z0-9_]*|__(init|eq|repr|str|len)__)$", name)
-                self.assertFalse(hasattr(builtins, found), (name, found))
+                self.assertFalse(found != "__init__" and hasattr(builtins, found), (name, found))
             for node in ast.walk(tree):
                 if isinstance(node, ast.Name) and isinstance(node.ctx, ast.Load):
                     self.assertIn(node.id, bound + OWN, (name, node.lineno))
@@ -237,6 +237,22 @@ class LanguageTest(unittest.TestCase):
                     parent = parents[node]
                     beside = called(parents.get(parent)) == "isinstance" or called(parent) == "isinstance"
                     self.assertTrue(beside or getattr(parent, "func", None) is node, (name, node.lineno))
+
+    def test_methods_and_values_of_objects(self):
+        methods, values = [], []
+        for where, node in self.each_node():
+            if isinstance(node, ast.ClassDef):
+                own = [inner.name for inner in node.body if isinstance(inner, ast.FunctionDef)]
+                self.assertEqual(len(own), len(set(own)), where)
+                methods += own
+            if isinstance(node, ast.Attribute) and isinstance(node.ctx, ast.Store):
+                self.assertEqual(getattr(node.value, "id", None), "self", where)
+                values.append(node.attr)
+        self.assertEqual(set(methods) & set(values), set())
+        for found in set(methods + values) - {"__init__"}:
+            self.assertRegex(found, r"^[A-Za-z][A-Za-z0-9_]*$")
+            for kept in ("", 0, [], {}, set(), b"", ()):
+                self.assertFalse(hasattr(kept, found), found)
 
     def test_errors_are_taken_by_name(self):
         for name, text, tree in self.each():
