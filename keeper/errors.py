@@ -1,61 +1,77 @@
 """The refusals, a class for each."""
 
 
+# A class can't be asked what it is called, so each one tells it: the desk answers with that.
 class KeeperError(ValueError):
-    pass
+    def small_name(self):
+        return "keepererror"
 
 
 class Great(KeeperError):
-    pass
+    def small_name(self):
+        return "great"
 
 
 class NoPlace(KeeperError):
-    pass
+    def small_name(self):
+        return "noplace"
 
 
 class NoStep(KeeperError):
-    pass
+    def small_name(self):
+        return "nostep"
 
 
 class Dry(KeeperError):
-    pass
+    def small_name(self):
+        return "dry"
 
 
 class NoVariable(KeeperError):
-    pass
+    def small_name(self):
+        return "novariable"
 
 
 class NoName(KeeperError):
-    pass
+    def small_name(self):
+        return "noname"
 
 
 class NotAll(KeeperError):
-    pass
+    def small_name(self):
+        return "notall"
 
 
 class NotSome(KeeperError):
-    pass
+    def small_name(self):
+        return "notsome"
 
 
 class NotSame(KeeperError):
-    pass
+    def small_name(self):
+        return "notsame"
 
 
 class Unlike(KeeperError):
-    pass
+    def small_name(self):
+        return "unlike"
 
 
 class NoText(KeeperError):
-    pass
+    def small_name(self):
+        return "notext"
 
 
 class NoWord(KeeperError):
-    pass
+    def small_name(self):
+        return "noword"
 
 
 class TwiceTold(KeeperError):
-    pass
+    def small_name(self):
+        return "twicetold"
 
 
 class NotClosed(KeeperError):
-    pass
+    def small_name(self):
+        return "notclosed"

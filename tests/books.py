@@ -46,6 +46,16 @@ def plus(one, other):
     return at(("name", "plus"), one, other)
 
 
+def wide_nat(knots, function=("name", "plus")):
+    """A term of the kind nat, of so many knots, made with a function of two numbers.
+
+    With a variable as the function nothing in it steps."""
+    if knots <= 4:
+        return deep(knots)
+    half = (knots - 3) // 2
+    return at(function, wide_nat(half, function), wide_nat(knots - 3 - half, function))
+
+
 def row_of_names(count):
     """A book in which each of so many names tells the next one, and the names in order."""
     signs = "abcdefghij"

@@ -10,6 +10,8 @@ WORDS = (
     "var", "fun", "app", "zero", "next", "rec", "like", "carry", "never", "pair", "first", "second", "name",
 )
 
+KIND_WORDS = WORDS[:5]
+
 # The number of the child that a binder of the thing stands over.
 BINDS = {"all": 1, "some": 1, "fun": 1, "rec": 0, "carry": 0}
 

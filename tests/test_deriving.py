@@ -8,7 +8,7 @@ from keeper.judging import kind_of, let_by
 from keeper.looking import faults_of
 from keeper.things import is_kind, is_term
 from tests import test_judging
-from tests.books import SOUND, TO_NAT, at, number, plus
+from tests.books import SOUND, TO_NAT, at, number, plus, wide_nat
 from tests.lawful import lawful
 from tests.looking_by_table import faults_by_table
 from tests.refusals import assert_refused
@@ -284,7 +284,7 @@ class RefusingTest(DerivingTest):
                 assert_refused(self, refusal, derived, context, term, FUEL, SOUND)
                 assert_refused(self, refusal, derived, context, under(3, term), FUEL, SOUND)
         assert_refused(self, Dry, derived, [], at(("fun", same(TWO, TWO), ZERO), ("like", NAT, TWO)), 1, SOUND)
-        assert_refused(self, Great, derived, [], ("like", NAT, test_judging.wide_nat(300)), FUEL, SOUND)
+        assert_refused(self, Great, derived, [], ("like", NAT, wide_nat(300)), FUEL, SOUND)
         assert_refused(self, Great, derived, [same(var(99), V0)], V0, FUEL, SOUND)
         assert_refused(self, NoName, derived, [], TWO, FUEL, {})
 

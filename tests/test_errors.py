@@ -27,6 +27,10 @@ class ErrorsTest(unittest.TestCase):
         for found in CLASSES:
             assert_refused(self, found, refuse, found)
 
+    def test_each_tells_the_name_of_its_class_in_small_letters(self):
+        for found in CLASSES + (errors.KeeperError,):
+            self.assertEqual(found("words").small_name(), found.__name__.lower())
+
 
 if __name__ == "__main__":
     unittest.main()

@@ -6,7 +6,7 @@ from keeper.judging import kind_at, kind_of, let_by
 from keeper.normal import normal
 from keeper.putting import lifted, put_in
 from keeper.things import depth_of, size_of
-from tests.books import PLUS_KIND, SOUND, TO_NAT, TURN_KIND, at, number, plus
+from tests.books import PLUS_KIND, SOUND, TO_NAT, TURN_KIND, at, number, plus, wide_nat
 from tests.refusals import assert_refused
 from tests.samples import KINDS, NAT, NONE, V0, V1, V2, V3, ZERO, deep, deep_kind, under, var
 
@@ -31,16 +31,6 @@ BAD = (
     (Unlike, ("next", LIKE)),
 )
 BAD_KINDS = tuple((refusal, same(term, ZERO)) for refusal, term in BAD)
-
-
-def wide_nat(knots, function=("name", "plus")):
-    """A term of the kind nat, of so many knots, made with a function of two numbers.
-
-    With a variable as the function nothing in it steps."""
-    if knots <= 4:
-        return deep(knots)
-    half = (knots - 3) // 2
-    return at(function, wide_nat(half, function), wide_nat(knots - 3 - half, function))
 
 
 class KindAtTest(unittest.TestCase):

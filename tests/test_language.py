@@ -254,6 +254,37 @@ class LanguageTest(unittest.TestCase):
             for kept in ("", 0, [], {}, set(), b"", ()):
                 self.assertFalse(hasattr(kept, found), found)
 
+    def test_keywords_annotations_and_powers(self):
+        keywords = {"sorted": ("key", "reverse"), "min": ("key", "default"), "max": ("key", "default"),
+                    "sum": ("start",), "enumerate": ("start",), "zip": ("strict",)}
+        for where, node in self.each_node():
+            if isinstance(node, ast.Call) and (called(node) in OWN + METHODS or isinstance(node.func, ast.Attribute)):
+                for keyword in node.keywords:
+                    self.assertIn(keyword.arg, keywords.get(called(node), ()), where)
+            if isinstance(node, ast.arg):
+                self.assertIsNone(node.annotation, where)
+            if isinstance(node, ast.FunctionDef):
+                self.assertIsNone(node.returns, where)
+            self.assertNotIsInstance(node, ast.Pow, where)
+
+    def test_texts_with_names_in_braces(self):
+        for where, node in self.each_node():
+            if isinstance(node, ast.FormattedValue):
+                self.assertIsInstance(node.value, ast.Name, where)
+                self.assertIn(node.conversion, (-1, ord("r")), where)
+                self.assertIsNone(node.format_spec, where)
+
+    def test_classes_are_not_handed_on(self):
+        for name, text, tree in self.each():
+            classes = [node.name for node in tree.body if isinstance(node, ast.ClassDef)]
+            classes += [found for module, found in imported(tree) if found[:1].isupper() and not found.isupper()]
+            parents = parents_of(tree)
+            for node in ast.walk(tree):
+                if isinstance(node, ast.Name) and node.id in classes:
+                    parent = parents[node]
+                    stands = isinstance(parent, (ast.ClassDef, ast.ExceptHandler)) or called(parent) == "isinstance"
+                    self.assertTrue(stands or getattr(parent, "func", None) is node, (name, node.lineno))
+
     def test_errors_are_taken_by_name(self):
         for name, text, tree in self.each():
             own = [found for module, found in imported(tree) if module == "keeper.errors"]

@@ -4,14 +4,14 @@ import random
 import unittest
 
 from keeper.equality import alike, compared, parting, shows
-from keeper.errors import Dry, Great, KeeperError
+from keeper.errors import Dry, Great
 from keeper.judging import kind_of, let_by
 from keeper.normal import normal
-from keeper.places import at_place, places_of, with_at
 from keeper.putting import lifted
 from keeper.steps import stepped, steps_of
 from keeper.things import is_kind
 from tests.books import SOUND
+from tests.changing import changed, is_true, outcome
 from tests.judging_by_names import kind_by_names, let_by_names
 from tests.lawful import lawful
 from tests.samples import NAT, many_kinds, many_terms
@@ -19,32 +19,6 @@ from tests.valuing import normal_by_values
 
 FUEL = 500
 LAWFUL = lawful(250, 61, SOUND)
-KIND_WORDS = ("nat", "none", "all", "some", "same")
-
-
-def is_true(kind):
-    """Point 24."""
-    if kind[0] == "all":
-        return not is_true(kind[1]) or is_true(kind[2])
-    if kind[0] == "some":
-        return is_true(kind[1]) and is_true(kind[2])
-    return kind[0] != "none"
-
-
-def outcome(function, *values):
-    try:
-        return function(*values)
-    except KeeperError as refusal:
-        return type(refusal)
-
-
-def changed(chance, thing):
-    """The thing with something from another place of it at one place."""
-    places = places_of(thing)
-    place = chance.choice(places)
-    is_kind_there = at_place(thing, place)[0] in KIND_WORDS
-    others = [other for other in places if (at_place(thing, other)[0] in KIND_WORDS) == is_kind_there]
-    return outcome(with_at, thing, place, at_place(thing, chance.choice(others)))
 
 
 class LetByTest(unittest.TestCase):
