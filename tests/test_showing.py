@@ -158,12 +158,11 @@ class ShowingTest(unittest.TestCase):
         self.assert_shown(text + "am" + ")" * 39, under(39, V0))
 
     def test_more_than_52_names(self):
-        for count in (25, 26, 27, 51, 52, 53, 77, 78, 79, 100):
+        for count in (25, 26, 27, 51, 52, 53, 77, 78, 79, 98):
             names = first_names(count + 2)
             handed, own = names[:count], names[count:]
             text = f"(fun {own[0]} nat (fun {own[1]} nat (app {own[1]} {handed[-1]})))"
-            if count + 1 <= 99:
-                self.assert_shown(text, under(2, ("app", V0, var(count + 1))), handed)
+            self.assert_shown(text, under(2, ("app", V0, var(count + 1))), handed)
         self.assertEqual(first_names(53)[51:], ["az", "ba"])
         self.assert_shown("(fun ba nat ba)", under(1, V0), first_names(52))
         self.assert_shown("(fun az nat (fun ba nat az))", under(2, V1), first_names(51))
@@ -233,7 +232,9 @@ class ShowingTest(unittest.TestCase):
         self.assertEqual(shown(number(40), []), "40")
         self.assertEqual(shown(number(50), []), "50")
         self.assertEqual(shown(wide(610), []), shown_by_names(wide(610), []))
-        self.assertEqual(shown(under(50, V0), []), shown_by_names(under(50, V0), []))
+        text = "".join(f"(fun {name} nat " for name in first_names(55))
+        self.assertEqual(shown(under(55, V0), []), text + "bc" + ")" * 55)
+        self.assertEqual(shown(under(55, V2), []), text + "ba" + ")" * 55)
         self.assertEqual(shown(var(104), first_names(105)), first_names(105)[-1])
 
     def test_as_by_names_and_read_again(self):
